@@ -1,0 +1,1 @@
+"""Wipeways: kept worths wiped on every way."""
