@@ -1,6 +1,7 @@
-"""Those rules of LANGUAGE.md that are plain to see in a file: its signs, size, words and imports."""
+"""Those rules of LANGUAGE.md that are plain to see in a file: its signs, size, words, imports and names."""
 
 import ast
+import builtins
 import pathlib
 import re
 import unittest
@@ -11,9 +12,50 @@ BARRED = re.compile(
     r"|namedtuple|NamedTuple|TypedDict|TYPE_CHECKING|abstractmethod)\b|dataclass|overload|contextmanager"
 )
 
+# Of L8, and of L25 the methods of its first list.
+BUILTINS = set((
+    "len range enumerate zip min max sum abs sorted reversed int str bool bytes list tuple dict set frozenset "
+    "isinstance ord repr any all divmod Exception ValueError TypeError KeyError IndexError LookupError "
+    "ZeroDivisionError ArithmeticError OverflowError RuntimeError NotImplementedError AttributeError StopIteration "
+    "NotImplemented super"
+).split())
+METHODS = set((
+    "append clear copy count endswith extend find get index insert isalnum isalpha isdigit islower isspace isupper "
+    "items join keys ljust lower lstrip partition pop remove replace reverse rfind rjust rpartition rsplit rstrip "
+    "setdefault split splitlines startswith strip update upper values zfill bit_length add discard"
+).split())
+STATEMENTS = (
+    ast.Assign, ast.AugAssign, ast.If, ast.While, ast.For, ast.Return, ast.Break, ast.Continue, ast.Pass, ast.Raise,
+    ast.Assert, ast.Delete, ast.Try, ast.Expr, ast.FunctionDef, ast.ClassDef, ast.ImportFrom,
+)
+NO_VALUES = (ast.Div, ast.Set, ast.Lambda, ast.Await, ast.NamedExpr, ast.Yield, ast.YieldFrom)
+
 
 def files():
     return sorted(path for path in PACKAGE.iterdir() if path.name != "__pycache__")
+
+
+def trees():
+    return {path.name: ast.parse(path.read_text(encoding="utf-8")) for path in files()}
+
+
+def nodes(kind):
+    """All nodes of that kind, each with the name of its file."""
+    return [(name, node) for name, tree in trees().items() for node in ast.walk(tree) if isinstance(node, kind)]
+
+
+def bound_in(tree):
+    """The names that are given a meaning within functions."""
+    bound = {node.id for node in ast.walk(tree) if isinstance(node, ast.Name) and isinstance(node.ctx, ast.Store)}
+    return bound | {node.arg for node in ast.walk(tree) if isinstance(node, ast.arg)}
+
+
+def imported_in(tree):
+    return {alias.asname or alias.name for node in tree.body if isinstance(node, ast.ImportFrom) for alias in node.names}
+
+
+def defined_in(tree, kind):
+    return {node.name for node in ast.walk(tree) if isinstance(node, kind)}
 
 
 class TestLanguage(unittest.TestCase):
@@ -52,6 +94,77 @@ class TestLanguage(unittest.TestCase):
                     if isinstance(node, ast.ImportFrom):
                         self.assertEqual(node.level, 0)
                         self.assertRegex(node.module, r"\Awipeways\.[a-z0-9_]+\Z")
+
+    def test_imports_name_the_file_that_defines(self):
+        all_trees = trees()
+        for name, node in nodes(ast.ImportFrom):
+            source = all_trees[node.module.split(".")[1] + ".py"]
+            own = {target.id for part in source.body if isinstance(part, ast.Assign) for target in part.targets}
+            own |= defined_in(source, (ast.FunctionDef, ast.ClassDef))
+            for alias in node.names:
+                with self.subTest(file=name, name=alias.name):
+                    self.assertIn(alias.name, own)
+
+    def test_imports_stand_in_no_ring(self):
+        needs = {name: set() for name in trees()}
+        for name, node in nodes(ast.ImportFrom):
+            needs[name].add(node.module.split(".")[1] + ".py")
+        while needs:
+            free = [name for name in needs if not needs[name] & set(needs)]
+            self.assertNotEqual(free, [], needs)
+            for name in free:
+                del needs[name]
+
+    def test_imports_and_classes_keep_their_meaning(self):
+        for name, tree in trees().items():
+            with self.subTest(file=name):
+                taken = imported_in(tree) | defined_in(tree, ast.ClassDef)
+                self.assertEqual(bound_in(tree) & taken, set())
+                self.assertEqual(imported_in(tree) & defined_in(tree, (ast.FunctionDef, ast.ClassDef)), set())
+
+    def test_each_import_is_used(self):
+        for name, tree in trees().items():
+            with self.subTest(file=name):
+                used = {node.id for node in ast.walk(tree) if isinstance(node, ast.Name)}
+                self.assertLessEqual(imported_in(tree), used)
+
+    def test_names(self):
+        for name, tree in trees().items():
+            named = bound_in(tree) | defined_in(tree, (ast.FunctionDef, ast.ClassDef)) - {"__init__"}
+            for one in sorted(named):
+                with self.subTest(file=name, name=one):
+                    self.assertFalse(one.startswith("_"))
+                    self.assertFalse(hasattr(builtins, one))
+                    self.assertNotIn(one, ("open", "input", "law", "elements", "register", "mro", "type"))
+
+    def test_builtins(self):
+        for name, node in nodes(ast.Name):
+            with self.subTest(file=name, name=node.id, line=node.lineno):
+                if hasattr(builtins, node.id):
+                    self.assertIn(node.id, BUILTINS)
+
+    def test_statements_and_values(self):
+        for name, node in nodes(ast.stmt):
+            with self.subTest(file=name, line=node.lineno):
+                self.assertIsInstance(node, STATEMENTS)
+        for name, node in nodes(NO_VALUES):
+            with self.subTest(file=name):
+                self.fail(ast.dump(node))
+        for name, node in nodes(ast.Constant):
+            with self.subTest(file=name, line=node.lineno):
+                self.assertIn(type(node.value), (int, str, bool, type(None)))
+                self.assertNotIn("%", str(node.value))
+
+    def test_methods(self):
+        own = {part.name for _, node in nodes(ast.ClassDef) for part in node.body if isinstance(part, ast.FunctionDef)}
+        attributes = {
+            node.attr for _, node in nodes(ast.Attribute)
+            if isinstance(node.value, ast.Name) and node.value.id == "self" and isinstance(node.ctx, ast.Store)
+        }
+        self.assertEqual(own & attributes, set())
+        for name, node in nodes(ast.Attribute):
+            with self.subTest(file=name, line=node.lineno, name=node.attr):
+                self.assertIn(node.attr, own | attributes | METHODS)
 
 
 if __name__ == "__main__":
