@@ -1,5 +1,8 @@
 """What tests share: things that "of anything" means, programs made by chance, and runs and ways told anew."""
 
+from wipeways.errors import NoAnswer
+from wipeways.runs import run
+
 
 def no_texts():
     """Things that are no texts: no name and no box can be among them."""
@@ -193,6 +196,27 @@ def plain_run(program, answers, most):
         return ("ended", steps, tuple(now.told), tuple(now.left))
     except Fault as went:
         return ("fault", went.args[0], steps, tuple(now.told), tuple(now.left))
+
+
+def left_of(told):
+    """What is left, of what a run tells."""
+    return told[3 if told[0] == "ended" else 4]
+
+
+def some_run_leaves(program, most):
+    """Whether some run leaves something in so many steps, by all answers that may lead other ways."""
+    due = [()]
+    while due:
+        answers = due.pop()
+        try:
+            told = run(program, answers, most)
+        except NoAnswer:
+            continue
+        if left_of(told):
+            return True
+        if told[0] == "on" and told[2] < most:
+            due += [answers + (answer,) for answer in range(4)]
+    return False
 
 
 def graph_of(program, name):

@@ -6,20 +6,9 @@ follows does so from one fact, so all that are true are found by following each 
 """
 
 from wipeways.places import first_place
-from wipeways.steps import head_of, leaves, links_of, moved
+from wipeways.steps import head_of, leaves, moved
 
 AT_PARAM = "@"
-
-
-class Look:
-    """A def, or the main row, as it is looked at: by the tables of the defs that it calls."""
-
-    def __init__(self, program, name, tables):
-        self.program = program
-        self.name = name
-        self.tables = tables
-        self.params, self.results = head_of(program, name)
-        self.links = links_of(program, name)
 
 
 def first_facts(look):
@@ -75,7 +64,7 @@ def brought(sources, place, word, table):
 
 def facts_of_call(look, word, place, pair):
     """What follows from the pair, or from None, at a call, behind which stands the place."""
-    table = look.tables[word[1]]
+    table = look.known[word[1]]
     back, faults, flows, stays = table
     if pair is None:
         # Worths that the def takes itself are the same to the caller.

@@ -50,6 +50,17 @@ def links_of(program, name):
     return {place: (word_at(program, place), leads_of(program, place)) for place in places_of(program, name)}
 
 
+class Look:
+    """A def, or the main row, as it is looked at: by what is known of the defs that it calls, by their names."""
+
+    def __init__(self, program, name, known):
+        self.program = program
+        self.name = name
+        self.known = known
+        self.params, self.results = head_of(program, name)
+        self.links = links_of(program, name)
+
+
 def empties(word, box):
     """Whether the word wipes, clears or drops the box."""
     if word[0] == "wipe":

@@ -1,7 +1,8 @@
 """Sheets: what may be held at each place of a def or of the main row, and its table."""
 
-from wipeways.facts import Look, facts_after, first_facts
+from wipeways.facts import facts_after, first_facts
 from wipeways.places import places_of
+from wipeways.steps import Look
 
 
 def facts_of(look):
