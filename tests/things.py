@@ -2,6 +2,7 @@
 
 from wipeways.errors import NoAnswer
 from wipeways.runs import run
+from wipeways.texts import read_program
 
 
 def no_texts():
@@ -19,6 +20,11 @@ def deep(many):
     for _ in range(many - 1):
         thing = (thing,)
     return thing
+
+
+def main_row(text):
+    """The main row that is so written."""
+    return read_program("main { " + text + " }" if text else "main { }")[1]
 
 
 def made_row(chance, deep, loops, heads, boxes):
@@ -66,6 +72,23 @@ def made_program(chance, most_defs=3, deep=3):
         defs.append((name, params, results, made_row(chance, deep, 0, heads, boxes)))
         heads.append((name, params, results))
     return (tuple(defs), made_row(chance, deep, 0, heads, boxes))
+
+
+def made_straight(chance, many, boxes):
+    """A straight row of so many words by chance, that leaves nothing: where it would, wipes stand at its end."""
+    row, held = (), set()
+    while len(row) + len(held) < many:
+        kinds = ("take", "ask", "number", "copy", "copy", "mix", "mix", "mix", "open", "tell", "tell", "wipe")
+        kind = chance.choice(kinds)
+        x, y, z = (chance.choice(boxes) for _ in range(3))
+        word = {
+            "take": (kind, x, chance.choice(("u", "w"))), "number": (kind, x, chance.choice((0, 1, 9999))),
+            "copy": (kind, x, y), "mix": (kind, x, y, z), "open": (kind, x, y),
+        }.get(kind, (kind, x))
+        after = {box for box, source in Explored.held_after(word, frozenset((box, "w") for box in held))}
+        if len(row) + 1 + len(after) <= many:
+            row, held = row + (word,), after
+    return row + tuple(("wipe", box) for box in chance.sample(sorted(held), len(held)))
 
 
 class Went(Exception):
@@ -201,6 +224,11 @@ def plain_run(program, answers, most):
 def left_of(told):
     """What is left, of what a run tells."""
     return told[3 if told[0] == "ended" else 4]
+
+
+def told_of(told):
+    """The numbers that are told, of what a run tells."""
+    return told[2 if told[0] == "ended" else 3]
 
 
 def some_run_leaves(program, most):
@@ -342,3 +370,75 @@ class Explored:
             for place in sorted(self.notes)
         )
         return (name, notes, (self.back, self.faults, tuple(sorted(self.flows)), tuple(sorted(self.stays))))
+
+
+def names_in(program):
+    """All names that stand anywhere in a program: of defs, boxes, records, worths and faults, behind dots too."""
+    names = set()
+    due = [program]
+    while due:
+        thing = due.pop()
+        if isinstance(thing, tuple):
+            due += thing
+        elif isinstance(thing, str):
+            names.update(thing.split("."))
+    return names - WORDS
+
+
+WORDS = set((
+    "take ask number copy mix open tell wipe clear drop choose loop out risk fault call back def main"
+).split())
+
+
+def asked_from(program, place):
+    """The boxes asked behind a place, told anew: each one by going all ways from the place on."""
+    graph = graph_of(program, place[0])
+    results = {one[0]: one[2] for one in program[0]}.get(place[0], ())
+    boxes = sorted({box for word, leads in graph.values() if word for box in named_by(word)} | set(results))
+    return tuple(box for box in boxes if is_asked(program, graph, results, place, box))
+
+
+def named_by(word):
+    """The boxes that a word itself names."""
+    kind, parts = word[0], word[1:]
+    if kind in ("drop", "call"):
+        return [box for boxes in parts if isinstance(boxes, tuple) for box in boxes]
+    if kind in ("take", "ask", "number", "copy", "mix", "open", "tell", "wipe"):
+        return [part for part in parts[:1 if kind == "take" else 3] if isinstance(part, str)]
+    return []
+
+
+def is_asked(program, graph, results, place, box):
+    seen, due = set(), [place]
+    while due:
+        place = due.pop()
+        word, leads = graph[place]
+        kind, parts = (word[0], word[1:]) if word else ("back", ())
+        if box in {"copy": parts[1:], "mix": parts[1:], "open": parts[1:], "tell": parts, "back": results,
+                   "call": parts[1:2] and parts[1]}.get(kind, ()):
+            return True
+        gone = {"wipe": parts, "drop": parts and parts[0], "call": sum(parts[1:], ()) if kind == "call" else ()}
+        if kind == "clear":
+            taken = box.split(".")[0] == parts[0] and "." in box
+        else:
+            puts = kind in ("take", "ask", "number", "copy", "mix", "open")
+            taken = box in (parts[:1] if puts else gone.get(kind, ()))
+        if place not in seen and not taken and (kind != "call" or comes_back(program, parts[0])):
+            due += leads
+        seen.add(place)
+    return False
+
+
+def comes_back(program, name):
+    """Whether some way leads through the def, by going to all places to which some way leads."""
+    graph = graph_of(program, name)
+    seen, due = set(), [(name, 0)]
+    while due:
+        place = due.pop()
+        word, leads = graph[place]
+        if word is None or word[0] == "back":
+            return True
+        if place not in seen and (word[0] != "call" or comes_back(program, word[1])):
+            due += leads
+        seen.add(place)
+    return False

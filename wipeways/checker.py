@@ -4,6 +4,7 @@ from wipeways.facts import AT_PARAM, facts_after, first_facts
 from wipeways.names import is_box, is_name
 from wipeways.places import places_of
 from wipeways.steps import Look, head_of
+from wipeways.tables import tables_of
 from wipeways.words import is_whole
 
 
@@ -117,7 +118,7 @@ def is_paper(program, thing):
     """Whether anything is a paper of the program, by the tables that it tells itself."""
     if not has_form(program, thing):
         return False
-    tables = {name: table for name, notes, table in thing}
+    tables = tables_of(thing)
     return all(holds(Look(program, sheet[0], tables), sheet) for sheet in thing)
 
 

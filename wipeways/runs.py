@@ -50,7 +50,9 @@ class Run:
         return choices_of(self.word()) > 0 and self.wanted == len(self.answers)
 
     def next_answer(self, choices):
-        """The next answer, which must be a number below choices."""
+        """The next answer, which must be there, and be a number below choices."""
+        if self.wanted == len(self.answers):
+            raise NoAnswer(self.wanted)
         answer = self.answers[self.wanted]
         if not is_whole(answer) or not 0 <= answer < choices:
             raise NoAnswer(self.wanted)
@@ -82,9 +84,8 @@ def put_by(word, frame, answer):
     return ((number + 2 * other) % MIXED_BY, tuple(sorted(set(worths + more))))
 
 
-def do_plain(now, word, answer):
-    """Does a word that goes on in its own row."""
-    frame = now.frames[-1]
+def do_boxes(now, frame, word, answer):
+    """Does with the boxes of the frame what the word does, and tells and leaves what it does."""
     if word[0] in PUTTING:
         frame.boxes[word[1]] = put_by(word, frame, answer)
     if word[0] == "tell":
@@ -94,6 +95,12 @@ def do_plain(now, word, answer):
     for box in list(frame.boxes):
         if empties(word, box):
             frame.boxes[box] = NOTHING
+
+
+def do_plain(now, word, answer):
+    """Does a word that goes on in its own row."""
+    frame = now.frames[-1]
+    do_boxes(now, frame, word, answer)
     leads = leads_of(now.program, frame.place)
     frame.place = leads[answer][1] if word[0] == "choose" else leads[0][1]
 

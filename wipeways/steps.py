@@ -70,6 +70,15 @@ def empties(word, box):
     return word[0] == "drop" and box in word[1]
 
 
+def asked_by(word):
+    """The boxes that the word asks; what back and the end of a def ask is not told here."""
+    if word[0] in ("copy", "mix", "open"):
+        return word[2:]
+    if word[0] == "tell":
+        return word[1:]
+    return word[2] if word[0] == "call" else ()
+
+
 def moved(word, box):
     """The boxes that hold, behind the word, what came from what the box held ahead of it; not asked of calls."""
     if word[0] not in PUTTING:

@@ -42,8 +42,8 @@ def sheet_by(program, name, tables):
     return (name, notes_of(look, known), table_of(known))
 
 
-def sheets_to(program, name):
-    """The sheets of the defs that stand ahead, in their order, and last the one that is asked for."""
+def sheets_ahead(program, name):
+    """The sheets of the defs that stand ahead of the one of that name, of "" of all, in their order."""
     tables = {}
     sheets = []
     for one in program[0]:
@@ -52,10 +52,14 @@ def sheets_to(program, name):
         sheet = sheet_by(program, one[0], tables)
         tables[one[0]] = sheet[2]
         sheets.append(sheet)
-    sheets.append(sheet_by(program, name, tables))
     return sheets
+
+
+def tables_of(sheets):
+    """The tables of these sheets, by their names."""
+    return {name: table for name, notes, table in sheets}
 
 
 def sheet_of(program, name):
     """The sheet of the def of that name, or of the main row of "", by the tables of the defs that it calls."""
-    return sheets_to(program, name)[-1]
+    return sheet_by(program, name, tables_of(sheets_ahead(program, name)))

@@ -1,7 +1,7 @@
 """Programs written as texts, and read again."""
 
 from wipeways.errors import NoText
-from wipeways.words import FORMS, is_program
+from wipeways.words import FORMS, is_program, made_word
 
 FIGURES = "0123456789"
 MOST_FIGURES = 4
@@ -125,13 +125,6 @@ def read_word(marks, mark):
     for kind in FORMS[mark]:
         parts.append(read_part(marks, kind))
     return tuple(parts)
-
-
-def made_word(kind, rows):
-    """A choose or loop of these rows."""
-    if kind == "choose":
-        return (kind, tuple(rows))
-    return (kind, rows[0])
 
 
 def read_row(marks):

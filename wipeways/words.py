@@ -95,6 +95,13 @@ def rows_of(word):
     return ()
 
 
+def made_word(kind, rows):
+    """A choose or loop of these rows."""
+    if kind == "choose":
+        return (kind, tuple(rows))
+    return (kind, rows[0])
+
+
 def row_is_right(thing, heads):
     """Whether anything is the row of a def, or a main row, where the defs of these heads stand ahead."""
     due = [(thing, 0)]
