@@ -442,3 +442,83 @@ def comes_back(program, name):
             due += leads
         seen.add(place)
     return False
+
+
+class Seen:
+    """A main row without defs told anew for wipes: what may be held at each place, what is asked behind it, and the
+    ways of a box; whole is False where there was too much to be gone through."""
+
+    def __init__(self, program, most=2000):
+        found = Explored(program, "", most)
+        self.graph = graph_of(program, "")
+        self.whole = found.whole
+        self.notes = found.notes
+        self.asked = {place: asked_from(program, place) for place in self.graph}
+        self.boxes = sorted({box for word, leads in self.graph.values() if word for box in named_by(word)})
+
+    def may_hold(self, place, box):
+        return any(one == box for one, source in self.notes[place] or ())
+
+    def may_wipe(self, place, box):
+        word = self.graph[place][0]
+        return (word is None or word[0] != "loop") and box not in self.asked[place]
+
+    def may_wipes(self):
+        """All wipes that may be put in, of boxes that the row names, rising."""
+        return tuple((place, box) for place in sorted(self.graph) for box in self.boxes if self.may_wipe(place, box))
+
+    def begins(self, box):
+        """Where the ways of a box begin."""
+        found = set()
+        for place, (word, leads) in self.graph.items():
+            if word and self.notes[place] is not None and word[0] in ("take", "copy", "mix") and word[1] == box:
+                if word[0] == "take" or any(self.may_hold(place, one) for one in word[2:]):
+                    found.update(leads)
+        return found
+
+    def goes_on(self, place, box):
+        word, leads = self.graph[place]
+        if word is None or (box, "?") not in Explored.held_after(word, frozenset([(box, "?")])):
+            return []
+        # A word that puts into the box what it holds puts into it nevertheless.
+        return [] if word[0] in ("copy", "mix") and word[1] == box else leads
+
+    def ends(self, place, box):
+        word = self.graph[place][0]
+        return word is None or word[0] in ("back", "fault", "risk") or (word[0] == "drop" and box in word[1])
+
+    def is_way(self, box, way):
+        steps = all(after in self.goes_on(place, box) for place, after in zip(way, way[1:]))
+        return len(way) > 0 and way[0] in self.begins(box) and steps and self.ends(way[-1], box)
+
+    def are_apart(self, box, one, other):
+        return not any(self.may_wipe(place, box) for place in set(one) & set(other))
+
+    def stays(self):
+        """The first risk, and its first box, of what stays whatever is wiped; or None."""
+        for place in sorted(self.graph):
+            word = self.graph[place][0]
+            for box in self.asked[place]:
+                if word and word[0] == "risk" and self.may_hold(place, box):
+                    return (place, box)
+        return None
+
+
+def with_wipes(program, wipes):
+    """The program with wipes put in, told anew: the last one first, so that no other one is moved."""
+    row = listed(program[1])
+    for place, box in reversed(wipes):
+        inner = row
+        for at in range(1, len(place) - 2, 2):
+            word = inner[place[at]]
+            inner = word[1][place[at + 1]] if word[0] == "choose" else word[1]
+        inner.insert(place[-1], ["wipe", box])
+    return ((), tupled(row))
+
+
+def listed(thing):
+    return [listed(part) for part in thing] if isinstance(thing, tuple) else thing
+
+
+def tupled(thing):
+    return tuple(tupled(part) for part in thing) if isinstance(thing, list) else thing

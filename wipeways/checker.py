@@ -5,12 +5,7 @@ from wipeways.names import is_box, is_name
 from wipeways.places import places_of
 from wipeways.steps import Look, head_of
 from wipeways.tables import tables_of
-from wipeways.words import is_whole
-
-
-def is_tuple_of(thing, many):
-    """Whether anything is a tuple of so many parts."""
-    return isinstance(thing, tuple) and len(thing) == many
+from wipeways.words import is_rising, is_tuple_of, is_whole
 
 
 def is_source(thing, params):
@@ -28,11 +23,6 @@ def is_flow(thing, params, results):
     if not is_tuple_of(thing, 2) or not is_source(thing[0], params):
         return False
     return is_whole(thing[1]) and 0 <= thing[1] < len(results)
-
-
-def is_rising(things):
-    """Whether things that can be compared rise, each once."""
-    return all(low < high for low, high in zip(things, things[1:]))
 
 
 def is_note(thing, place, params):

@@ -1,6 +1,6 @@
 """Places: where each word of a row stands, and what stands behind it."""
 
-from wipeways.words import row_of, rows_of
+from wipeways.words import is_whole, row_of, rows_of
 
 
 def row_around(program, place):
@@ -23,6 +23,14 @@ def places_of(program, name):
             found.append(place)
             due.extend([(place + (number,), one) for number, one in enumerate(rows_of(word))])
     return tuple(sorted(found))
+
+
+def is_place(thing, places):
+    """Whether anything is one of these places."""
+    if not isinstance(thing, tuple) or len(thing) == 0 or not isinstance(thing[0], str):
+        return False
+    # To Python ("", True) is the same as ("", 1), and what can be no key may stand in anything.
+    return all(is_whole(number) for number in thing[1:]) and thing in places
 
 
 def word_at(program, place):

@@ -35,6 +35,16 @@ def is_whole(thing):
     return isinstance(thing, int) and not isinstance(thing, bool)
 
 
+def is_tuple_of(thing, many):
+    """Whether anything is a tuple of so many parts."""
+    return isinstance(thing, tuple) and len(thing) == many
+
+
+def is_rising(things):
+    """Whether things that can be compared rise, each once."""
+    return all(low < high for low, high in zip(things, things[1:]))
+
+
 def are_boxes(thing):
     """Whether anything is a tuple of unlike boxes."""
     if not isinstance(thing, tuple) or not all(is_box(box) for box in thing):
@@ -124,7 +134,7 @@ def head_is_right(thing):
 
 def def_is_right(thing, heads):
     """Whether anything is a def that may stand behind those of these heads."""
-    if not isinstance(thing, tuple) or len(thing) != 4:
+    if not is_tuple_of(thing, 4):
         return False
     name, params, results, row = thing
     if not is_name(name) or name in heads:
@@ -134,7 +144,7 @@ def def_is_right(thing, heads):
 
 def is_program(thing):
     """Whether anything is a program."""
-    if not isinstance(thing, tuple) or len(thing) != 2:
+    if not is_tuple_of(thing, 2):
         return False
     defs, row = thing
     if not isinstance(defs, tuple) or len(defs) > MOST_DEFS:
