@@ -44,6 +44,21 @@ def nodes(kind):
     return [(name, node) for name, tree in trees().items() for node in ast.walk(tree) if isinstance(node, kind)]
 
 
+def around_each(kind):
+    """All nodes of that kind, each with the name of its file and the node in which it stands."""
+    return [
+        (name, node, around) for name, tree in trees().items() for around in ast.walk(tree)
+        for node in ast.iter_child_nodes(around) if isinstance(node, kind)
+    ]
+
+
+def called(node):
+    """The name by which a function is called, or a method; None of what is no call."""
+    if not isinstance(node, ast.Call):
+        return None
+    return node.func.id if isinstance(node.func, ast.Name) else getattr(node.func, "attr", None)
+
+
 def bound_in(tree):
     """The names that are given a meaning within functions."""
     bound = {node.id for node in ast.walk(tree) if isinstance(node, ast.Name) and isinstance(node.ctx, ast.Store)}
@@ -154,6 +169,52 @@ class TestLanguage(unittest.TestCase):
             with self.subTest(file=name, line=node.lineno):
                 self.assertIn(type(node.value), (int, str, bool, type(None)))
                 self.assertNotIn("%", str(node.value))
+
+    def test_sets_are_sorted_or_counted_on_the_spot(self):
+        for name, node, around in around_each(ast.Call):
+            if called(node) in ("set", "frozenset"):
+                with self.subTest(file=name, line=node.lineno):
+                    self.assertIn(called(around), ("sorted", "len"))
+        for name, node in nodes(ast.SetComp):
+            with self.subTest(file=name, line=node.lineno):
+                self.fail("a set comprehension")
+
+    def test_what_is_gone_through_at_once(self):
+        users = ("list", "tuple", "dict", "sorted", "sum", "any", "all", "enumerate", "zip", "reversed")
+        for name, node, around in around_each(ast.Call):
+            if called(node) in ("zip", "enumerate", "reversed", "range", "items", "keys", "values"):
+                with self.subTest(file=name, line=node.lineno):
+                    loops = isinstance(around, (ast.For, ast.comprehension)) and around.iter == node
+                    self.assertTrue(loops or called(around) in users)
+
+    def test_module_level(self):
+        for name, tree in trees().items():
+            for node in tree.body:
+                with self.subTest(file=name, line=node.lineno):
+                    plain = isinstance(node, (ast.ImportFrom, ast.FunctionDef, ast.ClassDef))
+                    text = isinstance(node, ast.Expr) and isinstance(node.value, ast.Constant)
+                    if not plain and not text:
+                        self.assertIsInstance(node, ast.Assign)
+                        self.assertEqual(len(node.targets), 1)
+                        ast.literal_eval(node.value)
+
+    def test_names_at_module_level_are_bound_once(self):
+        for name, tree in trees().items():
+            bound = [alias.name for node in tree.body if isinstance(node, ast.ImportFrom) for alias in node.names]
+            bound += [node.name for node in tree.body if isinstance(node, (ast.FunctionDef, ast.ClassDef))]
+            bound += [node.targets[0].id for node in tree.body if isinstance(node, ast.Assign)]
+            with self.subTest(file=name):
+                self.assertEqual(sorted(bound), sorted(set(bound)))
+
+    def test_escapes_and_comparisons(self):
+        for path in files():
+            with self.subTest(file=path.name):
+                self.assertIsNone(re.search(r"\\[^nt\\'\"]", path.read_text(encoding="utf-8")))
+        for name, node in nodes(ast.Compare):
+            for op, other in zip(node.ops, node.comparators):
+                if isinstance(op, (ast.Is, ast.IsNot)):
+                    with self.subTest(file=name, line=node.lineno):
+                        self.assertIn(other.value, (None, True, False))
 
     def test_methods(self):
         own = {part.name for _, node in nodes(ast.ClassDef) for part in node.body if isinstance(part, ast.FunctionDef)}

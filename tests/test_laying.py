@@ -56,13 +56,50 @@ class TestCoded(LayingCase):
                     self.holds(row, hands)
                     self.holds(back, hands)
 
-    def test_twenty_worths_at_once(self):
+    def test_thirteen_worths_at_once(self):
         takes = tuple(("take", box, "w") for box in LETTERS[:13])
         mixes = tuple(("mix", box, box, LETTERS[12 - at]) for at, box in enumerate(LETTERS[:13]))
         wipes = tuple(("wipe", box) for box in LETTERS[:13])
         for hands in range(3, 9):
             self.holds(takes + mixes + wipes, hands)
             self.holds(takes + (("mix", "x", "a", "m"), ("open", "x", "x"), ("tell", "x")) + wipes, hands)
+
+    def test_worths_in_slots_are_cleaned(self):
+        takes = tuple(("take", box, "w") for box in LETTERS[:10])
+        tells = tuple(word for box in LETTERS[:10] for word in (("open", "z", box), ("tell", "z"), ("wipe", box)))
+        for hands in range(3, 9):
+            for row in (takes + tells, takes + tuple(("tell", box) for box in LETTERS[9::-1]) + tells[2::3]):
+                code = self.holds(row, hands)
+                laid = {order[1] for order in code if order[0] == "lay"}
+                self.assertGreater(len(laid), 0)
+                self.assertEqual({order[1] for order in code if order[0] == "clean"}, laid)
+
+    def test_no_order_is_wasted(self):
+        for text, code in (
+            ("tell x", "tell"),
+            ("ask x tell x copy y x tell y wipe x", "ask tell tell"),
+            # What is asked no more is written over, and what is made already isn't made again.
+            ("ask a ask b ask c mix a a b mix a a c tell a", "ask ask ask mix mix tell"),
+            ("ask x mix y x x tell y mix z x x tell z", "ask mix tell tell"),
+            ("ask x mix y x x tell y mix z x x", "ask mix tell"),
+            ("number x 5 number y 5 tell x tell y number y 6 tell y", "number tell tell number tell"),
+            # A worth is laid in a slot once, however often it is fetched.
+            ("ask a ask b ask c ask d tell a tell b tell c tell d", "ask ask ask lay ask tell tell fetch tell tell"),
+        ):
+            with self.subTest(row=text):
+                self.assertEqual([order[0] for order in self.holds(main_row(text), 3)], code.split())
+
+    def test_laid_once_however_often_it_is_fetched(self):
+        asks = tuple(("ask", box) for box in LETTERS[:6])
+        code = self.holds(asks + tuple(("tell", box) for box in LETTERS[:6]) * 5, 3)
+        laid = [order[1] for order in code if order[0] == "lay"]
+        self.assertLessEqual(len(laid), 6)
+        self.assertEqual(len(set(laid)), len(laid))
+
+    def test_a_form_in_a_slot_is_not_made_again(self):
+        row = main_row("ask a ask b mix x a b ask c ask d ask e tell c tell d tell e mix w a b tell w tell a tell b")
+        for hands in range(3, 9):
+            self.assertEqual([order[0] for order in self.holds(row, hands)].count("mix"), 1)
 
     def test_more_boxes_than_hands_and_slots(self):
         boxes = ["x." + one + other for one in LETTERS[:5] for other in LETTERS]
@@ -115,6 +152,17 @@ class TestNoCode(LayingCase):
             for hands in (3, 8):
                 with self.subTest(row=text):
                     self.refused(main_row(text), hands)
+
+    def test_more_at_once_than_hands_and_slots_can_keep(self):
+        # Far longer than rows here are: nothing is promised of them, but this is how they are refused.
+        boxes = ["x." + one + other for one in LETTERS[:3] for other in LETTERS]
+        for many in (63, 64, 68, 69):
+            row = tuple(("ask", box) for box in boxes[:many]) + tuple(("tell", box) for box in boxes[:many])
+            for hands in (3, 8):
+                if many <= 60 + hands:
+                    self.holds(row, hands)
+                else:
+                    self.refused(row, hands)
 
     def test_by_chance(self):
         chance = random.Random(54)

@@ -293,8 +293,12 @@ class TestNoTurn(WindowsCase):
 
     def test_rules(self):
         program = read_program(self.PROGRAM)
-        for rule in no_texts() + ["", "Same", "same ", "other", "copy", deep(20)]:
+        # Also where some other rule would let the word go.
+        unread = read_program("main { number x 5 }")
+        self.lets("main { number x 5 }", ("", 0), "unread")
+        for rule in no_texts() + ["", "Same", "same ", "other", "copy", "Unread", deep(20)]:
             self.refused(program, (("", 0), rule))
+            self.refused(unread, (("", 0), rule))
 
     def test_forms(self):
         program = read_program(self.PROGRAM)
@@ -326,7 +330,7 @@ class TestTurnsByChance(WindowsCase):
                             done[rule] += 1
                         else:
                             self.refused(program, (place, rule))
-        self.assertGreater(min(done.values()), 10)
+        self.assertGreater(min(done.values()), 3)
 
 
 class ShorterCase(unittest.TestCase):

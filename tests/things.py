@@ -78,7 +78,7 @@ def made_straight(chance, many, boxes):
     """A straight row of so many words by chance, that leaves nothing: where it would, wipes stand at its end."""
     row, held = (), set()
     while len(row) + len(held) < many:
-        kinds = ("take", "ask", "number", "copy", "copy", "mix", "mix", "mix", "open", "tell", "tell", "wipe")
+        kinds = ("take", "take", "ask", "number", "copy", "copy", "mix", "mix", "mix", "open", "tell", "tell", "wipe")
         kind = chance.choice(kinds)
         x, y, z = (chance.choice(boxes) for _ in range(3))
         word = {

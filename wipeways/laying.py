@@ -10,7 +10,7 @@ def last_asked(parts):
     # From the end on: a word that makes what nothing asks behind it asks nothing itself.
     for at in reversed(range(len(parts))):
         word, asked, put = parts[at]
-        if word[0] == "tell" or (word[0] in ("mix", "open") and put in last):
+        if word[0] == "tell" or put in last:
             for form in asked:
                 last.setdefault(form, at)
     return last
@@ -77,7 +77,7 @@ class Laying:
             self.orders.append(("tell", self.hands_with(asked, at)[0]))
         elif word[0] in ("take", "ask"):
             self.put_in_hand(word[0], word[2:], put, at)
-        elif word[0] in ("mix", "open") and self.is_due(put, at + 1) and not self.has(put):
+        elif word[0] in ("mix", "open") and self.is_due(put, at) and not self.has(put):
             self.put_in_hand(word[0], self.hands_with(asked, at), put, at)
 
     def has(self, form):

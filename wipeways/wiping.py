@@ -77,7 +77,7 @@ def net_of(sight, box):
 def way_by(path):
     """The way along a path of nodes, without the rounds that lead back to one of its places."""
     way = []
-    for place in [place for place, side in path if side == TO]:
+    for place in [one for one, side in path if side == TO]:
         if place in way:
             way = way[:way.index(place)]
         way.append(place)
