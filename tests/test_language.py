@@ -28,6 +28,29 @@ STATEMENTS = (
     ast.Assign, ast.AugAssign, ast.If, ast.While, ast.For, ast.Return, ast.Break, ast.Continue, ast.Pass, ast.Raise,
     ast.Assert, ast.Delete, ast.Try, ast.Expr, ast.FunctionDef, ast.ClassDef, ast.ImportFrom,
 )
+# Which file defines which functions and classes, and with how many arguments.
+INTERFACE = {
+    "names": {"is_name": 1, "is_box": 1, "in_record": 2},
+    "words": {"is_program": 1, "words_in": 1, "def_of": 2, "row_of": 2, "boxes_in": 1},
+    "places": {"places_of": 2, "word_at": 2, "behind": 2, "first_place": 2, "inside": 3, "out_of": 3},
+    "texts": {"show_row": 1, "show_program": 1, "read_program": 1},
+    "runs": {"run": 3},
+    "tables": {"sheet_of": 2},
+    "papers": {"paper_of": 1, "is_let_by": 1},
+    "checker": {"is_paper": 2, "lets_by": 2},
+    "ways": {"way_left": 1},
+    "inplace": {"in_place": 1},
+    "codes": {"is_code": 2, "run_code": 2, "code_holds": 3},
+    "laying": {"coded": 2},
+    "asking": {"asked_behind": 2},
+    "wiping": {"put_in": 2, "wipes_do": 2, "wiped": 1},
+    "apart": {"ways_apart": 2},
+    "windows": {"turned": 2, "shorter": 1},
+}
+CLASSES = {
+    "errors": {"WipeError", "NoText", "TooLong", "NoCode", "NoTurn", "NoRow", "NoAnswer"},
+    "desk": {"Desk"},
+}
 NO_VALUES = (ast.Div, ast.Set, ast.Lambda, ast.Await, ast.NamedExpr, ast.Yield, ast.YieldFrom)
 
 
@@ -71,6 +94,24 @@ def imported_in(tree):
 
 def defined_in(tree, kind):
     return {node.name for node in ast.walk(tree) if isinstance(node, kind)}
+
+
+class TestInterface(unittest.TestCase):
+
+    def test_each_function_is_defined_in_its_file(self):
+        for name, functions in INTERFACE.items():
+            found = {node.name: len(node.args.args) for node in trees()[name + ".py"].body if isinstance(node, ast.FunctionDef)}
+            for function, arguments in functions.items():
+                with self.subTest(file=name, function=function):
+                    self.assertEqual(found.get(function), arguments)
+
+    def test_each_class_is_defined_in_its_file(self):
+        for name, classes in CLASSES.items():
+            with self.subTest(file=name):
+                found = {node.name: node for node in trees()[name + ".py"].body if isinstance(node, ast.ClassDef)}
+                self.assertEqual(set(found), classes)
+        methods = [node.name for node in found["Desk"].body if isinstance(node, ast.FunctionDef)]
+        self.assertIn("say", methods)
 
 
 class TestLanguage(unittest.TestCase):

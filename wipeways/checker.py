@@ -5,7 +5,7 @@ from wipeways.names import is_box, is_name
 from wipeways.places import places_of
 from wipeways.steps import Look, head_of
 from wipeways.tables import tables_of
-from wipeways.words import is_rising, is_tuple_of, is_whole
+from wipeways.words import is_rising, is_tuple_of, is_whole, names_of
 
 
 def is_source(thing, params):
@@ -69,7 +69,7 @@ def is_sheet(program, name, thing):
 
 def has_form(program, thing):
     """Whether anything has the form of a paper of the program."""
-    names = [one[0] for one in program[0]] + [""]
+    names = names_of(program)
     if not is_tuple_of(thing, len(names)):
         return False
     return all(is_sheet(program, name, sheet) for name, sheet in zip(names, thing))

@@ -6,7 +6,7 @@ from wipeways.places import is_place, places_of, row_around, word_at
 from wipeways.sights import Sight
 from wipeways.steps import PUTTING, Look, asked_by, empties
 from wipeways.tables import sheet_by, sheets_ahead, tables_of
-from wipeways.words import is_tuple_of, made_word, rows_of
+from wipeways.words import is_tuple_of, made_word, names_of, rows_of
 
 # In this order they are tried at a place.
 RULES = ("same", "twice", "covered", "unread")
@@ -77,8 +77,7 @@ def is_turn(program, thing):
     """Whether anything is a place of a word and a rule."""
     if not is_tuple_of(thing, 2) or thing[1] not in RULES:
         return False
-    names = [one[0] for one in program[0]] + [""]
-    places = [place for name in names for place in places_of(program, name)]
+    places = [place for name in names_of(program) for place in places_of(program, name)]
     return is_place(thing[0], places) and word_at(program, thing[0]) is not None
 
 
@@ -108,8 +107,9 @@ def shorter(program):
     """The program after all turns, each the first one that there is, and these turns."""
     turns = []
     tables = {}
-    # A turn changes nothing of the defs ahead, so those that have none by then have none at the end.
-    for name in [one[0] for one in program[0]] + [""]:
+    names = names_of(program)
+    # A turn changes nothing for the defs ahead, so those that have none by then have none at the end.
+    for name in names:
         turn = first_turn(program, name, tables)
         while turn is not None:
             turns.append(turn)

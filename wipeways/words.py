@@ -191,6 +191,11 @@ def boxes_in(row):
     return tuple(sorted(set([box for inner in all_rows(row) for word in inner for box in boxes_of(word)])))
 
 
+def names_of(program):
+    """The names of the defs, in their order, and that of the main row, last."""
+    return [one[0] for one in program[0]] + [""]
+
+
 def def_of(program, name):
     """The def of that name, or None."""
     for one in program[0]:
